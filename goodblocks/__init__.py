@@ -1,0 +1,1 @@
+"""Luminosity and quality of a data house."""
