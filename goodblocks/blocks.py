@@ -66,5 +66,9 @@ def less(left, right):
     return in_both(left, all_but(right))
 
 
+def in_one_alone(left, right):
+    return in_either(less(left, right), less(right, left))
+
+
 def long_ones(pairs, least):
     return [(start, end) for start, end in pairs if end - start >= least]

@@ -17,6 +17,16 @@ SHAPES = (
     (1, False),
     (2, False),
     (3, False),
+    (3, True),
+    (3, False),
+    (5, True),
+    (2, False),
+    (1, False),
+    (2, False),
+    (1, False),
+    (3, False),
+    (3, False),
+    (0, False),
 )
 
 

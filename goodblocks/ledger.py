@@ -1,6 +1,6 @@
 """What's told, writing by writing, and what the first writings say."""
 
-from goodblocks.blocks import in_either, less
+from goodblocks.blocks import all_blocks, in_either, less
 from goodblocks.rules import blocks_let
 
 DEFECT = 0
@@ -13,6 +13,9 @@ SCALE = 6
 RULE = 7
 
 MOST_WRITINGS = 100
+
+# Stands for the owner of a defect that wasn't told by then.
+NO_OWNER = -1
 
 
 class Writing:
@@ -36,19 +39,22 @@ class Ledger:
     def __init__(self):
         self.writings = []
 
+    def place_now(self):
+        return len(self.writings)
+
     def is_full(self):
-        return len(self.writings) >= MOST_WRITINGS
+        return self.place_now() >= MOST_WRITINGS
 
     def write(self, kind, about, value, pairs):
         """Adds a writing; gives back its place."""
         self.writings.append(Writing(kind, about, value, pairs))
-        return len(self.writings)
+        return self.place_now()
 
     def first(self, n):
         return self.writings[:n]
 
     def has_as_of(self, n):
-        return n <= len(self.writings)
+        return n <= self.place_now()
 
     def names(self):
         return [writing.about for writing in self.writings if writing.kind == DEFECT]
@@ -62,19 +68,34 @@ class Ledger:
     def has_rule(self, i):
         return 0 <= i < len(self.rules())
 
+    def how_many(self, kinds):
+        return len([writing for writing in self.writings if writing.kind in kinds])
+
+    def owners(self, n):
+        """The owner of each defect as of n, also of those told later."""
+        roles = [NO_OWNER for name in self.names()]
+        told = 0
+        for writing in self.first(n):
+            if writing.kind == DEFECT:
+                roles[told] = writing.value
+                told += 1
+            elif writing.kind == OWNER:
+                roles[writing.about] = writing.value
+        return roles
+
     def owner_now(self, d):
-        owner = [writing.value for writing in self.writings if writing.kind == DEFECT][d]
-        for writing in self.writings:
-            if writing.kind == OWNER and writing.about == d:
-                owner = writing.value
-        return owner
+        return self.owners(self.place_now())[d]
+
+    def defect_blocks(self, d, n):
+        """The blocks that defect d has as of n; one not told by then has none."""
+        return blocks_with(self.first(n), d)
 
     def good_blocks(self, i, n):
-        """The blocks that rule i lets as of n; a defect not told by then has none."""
+        """The blocks that rule i lets as of n, also if it was told later."""
         sets = {}
         for d, name in enumerate(self.names()):
-            sets[name] = blocks_with(self.first(n), d)
-        return blocks_let(self.rules()[i], sets)
+            sets[name] = self.defect_blocks(d, n)
+        return blocks_let(self.rules()[i], sets, all_blocks())
 
 
 def blocks_with(writings, d):

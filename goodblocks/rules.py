@@ -1,6 +1,6 @@
-"""Rules: the words of a text, its first fault, and the blocks that a rule lets."""
+"""Rules: the words of a text, its first fault, the blocks that a rule lets, and what it looks at."""
 
-from goodblocks.blocks import all_blocks, all_but, in_both, in_either, long_ones
+from goodblocks.blocks import in_both, in_either, less, long_ones
 
 LETTERS = "abcdefghijklmnopqrstuvwxyz"
 DIGITS = "0123456789"
@@ -113,16 +113,16 @@ def fault_of(text, names):
     return (NO_FAULT, 0)
 
 
-def blocks_let(words, sets):
-    """The blocks that a faultless rule lets; sets has the blocks of each defect by its name."""
+def blocks_let(words, sets, whole):
+    """The blocks that a faultless rule lets; sets has those of each defect by its name, whole is all there are."""
     # Walked from the end, each word finds the sets of its RULEs at the end of ready, the first one last.
     ready = []
     least = 0
     for word in reversed(words):
         if word == "all":
-            ready.append(all_blocks())
+            ready.append(whole)
         elif word == "not":
-            ready.append(all_but(ready.pop()))
+            ready.append(less(whole, ready.pop()))
         elif word == "both":
             first = ready.pop()
             ready.append(in_both(first, ready.pop()))
@@ -136,3 +136,25 @@ def blocks_let(words, sets):
         else:
             ready.append(sets[word])
     return ready[0]
+
+
+def how_far(words):
+    """How far a faultless rule looks."""
+    ready = []
+    least = 0
+    for word in reversed(words):
+        if word == "both" or word == "either":
+            first = ready.pop()
+            ready.append(max(first, ready.pop()))
+        elif word == "long":
+            ready.append(ready.pop() + least - 1)
+        elif word.isdigit():
+            least = int(word)
+        elif word != "not":
+            ready.append(0)
+    return ready[0]
+
+
+def defects_named(words, names):
+    """The numbers of the defects that stand among the words, rising; names has the defects' names in order."""
+    return [d for d, name in enumerate(names) if name in words]

@@ -1,8 +1,8 @@
 """What blocks are worth, by pieces (from, up to, above, below): in order, apart, the fraction is each block's."""
 
-from goodblocks.blocks import all_blocks, in_both, less, overlaps
+from goodblocks.blocks import all_blocks, form_of, in_both, less, overlaps
 from goodblocks.ledger import LIVE, METER, SCALE
-from goodblocks.ratios import sum_of
+from goodblocks.ratios import lowest_terms, sum_of
 
 
 def value_of(writing):
@@ -43,5 +43,22 @@ def pieces_within(pieces, pairs):
     return product([(start, end, 1, 1) for start, end in pairs], pieces)
 
 
+def spans(pieces):
+    """The set of the pieces' blocks, in its form."""
+    return form_of([(start, end) for start, end, above, below in pieces])
+
+
 def luminosity(pieces):
     return sum_of([((end - start) * above, below) for start, end, above, below in pieces])
+
+
+def stretches(pieces):
+    """The pieces with each worth in lowest terms, and those that touch and are worth the same as one."""
+    found = []
+    for start, end, above, below in pieces:
+        worth = lowest_terms(above, below)
+        if found and found[-1][1] == start and found[-1][2:] == worth:
+            found[-1] = (found[-1][0], end, worth[0], worth[1])
+        else:
+            found.append((start, end, worth[0], worth[1]))
+    return found

@@ -61,6 +61,46 @@ def lumi(i, k, n):
     return [10, i, k, n]
 
 
+def part(i, k, n, *pairs):
+    return with_row(11, [i, k, n], flat(pairs))
+
+
+def list_of(i, k, n):
+    return [12, i, k, n]
+
+
+def judge(i, k, n, a, b, *stretches):
+    return with_row(13, [i, k, n, a, b], flat(stretches))
+
+
+def defect_set(d, n):
+    return [14, d, n]
+
+
+def owners(n):
+    return [15, n]
+
+
+def alike(i, j):
+    return [16, i, j]
+
+
+def looks(i):
+    return [17, i]
+
+
+def changed(i, m, n):
+    return [18, i, m, n]
+
+
+def worth(k, n, b):
+    return [19, k, n, b]
+
+
+def counts():
+    return [20]
+
+
 def cut(given):
     """The answers, call by call."""
     found = []
@@ -87,11 +127,29 @@ def shown_text(answer):
 
 
 def pairs_in(answer):
-    """The pairs that `good` answered, after a look at its counts."""
+    """The pairs that `good`, `defectSet` or `changed` answered, after a look at its counts."""
     pairs = list(zip(answer[2::2], answer[3::2]))
     assert answer[0] == sum(end - start for start, end in pairs), answer
     assert len(answer) == 2 + 2 * answer[1], answer
     return pairs
+
+
+def stretches_in(answer):
+    """The stretches that `list` answered, after a look at their count."""
+    assert len(answer) == 1 + 4 * answer[0], answer
+    return [tuple(answer[at:at + 4]) for at in range(1, len(answer), 4)]
+
+
+def case_in(answer):
+    """The case that `alike` answered: on the left, on the right, and each block's defects."""
+    assert answer[0] == 0, answer
+    blocks = []
+    at = 4
+    while at < len(answer):
+        blocks.append(answer[at + 1:at + 1 + answer[at]])
+        at += 1 + answer[at]
+    assert len(blocks) == answer[3], answer
+    return answer[1], answer[2], blocks
 
 
 class HouseTest(unittest.TestCase):
@@ -100,5 +158,5 @@ class HouseTest(unittest.TestCase):
         self.assertEqual([code], last(*calls))
 
     def good_pairs(self, pairs, *calls):
-        """The last of the calls asks for good blocks: just these."""
+        """The last of the calls asks for blocks: just these."""
         self.assertEqual(pairs, pairs_in(last(*calls)))

@@ -2,9 +2,10 @@
 
 import random
 import unittest
+from fractions import Fraction
 
 from tests import support
-from tests.model import model_answers
+from tests.model import Model, model_answers
 from tests.support import ask
 
 NAMES = ("a", "bb", "noise", "hv", "eighteen", "z", "trip", "veto", "ninth")
@@ -59,6 +60,15 @@ class Line:
             return word + blank + str(n) + blank + self.text(depth - 1)
         return word + blank + self.text(depth - 1) + blank + self.text(depth - 1)
 
+    def small_text(self, names, depth):
+        """A rule of these names that doesn't look far."""
+        word = self.chance.choice(("name", "not", "both", "either", "long 1", "long 2", "long 2", "long 3"))
+        if depth == 0 or word == "name":
+            return self.chance.choice(names)
+        if word == "both" or word == "either":
+            return f"{word} {self.small_text(names, depth - 1)} {self.small_text(names, depth - 1)}"
+        return f"{word} {self.small_text(names, depth - 1)}"
+
     def text_row(self):
         row = list(self.text(self.chance.choice((1, 2, 3, 9))).encode())[:230]
         if row and self.strays():
@@ -85,15 +95,71 @@ class Line:
             return support.scale(draw(0, 1), draw(1, 4), draw(1, 1000), *self.pairs())
         return support.rule(self.text_row())
 
+    def place(self, most):
+        return self.number(most - 5, most) if self.chance.random() < 0.7 else self.number(0, most)
+
     def asking(self, most):
         draw = self.number
-        kind = self.chance.choice((8, 9, 9, 10, 10))
-        n = draw(most - 5, most) if self.chance.random() < 0.7 else draw(0, most)
+        n = self.place(most)
+        kind = self.chance.choice((8, 9, 9, 10, 10, 11, 11, 12, 12, 14, 15, 17, 18, 18, 19, 20))
         if kind == 8:
             return support.shown(draw(0, 3))
         if kind == 9:
             return support.good(draw(1, 3), n)
-        return support.lumi(draw(0, 3), draw(0, 1), n)
+        if kind == 10:
+            return support.lumi(draw(0, 3), draw(0, 1), n)
+        if kind == 11:
+            return support.part(draw(0, 3), draw(0, 1), n, *self.pairs())
+        if kind == 12:
+            return support.list_of(draw(0, 3), draw(0, 1), n)
+        if kind == 14:
+            return support.defect_set(draw(0, 4), n)
+        if kind == 15:
+            return support.owners(n)
+        if kind == 17:
+            return support.looks(draw(0, 3))
+        if kind == 18:
+            return support.changed(draw(1, 3), self.place(most), n)
+        if kind == 19:
+            return support.worth(draw(0, 1), n, self.near(self.chance.choice(self.ends)))
+        return support.counts()
+
+    def retold(self, stretches):
+        """The stretches in other words, or wrong in one way."""
+        found = [list(stretch) for stretch in stretches]
+        way = self.chance.choice(("as it is", "in parts", "scaled", "worth", "gone", "moved", "swapped", "one more"))
+        if way == "one more" or not found:
+            start = self.near(self.chance.choice(self.ends))
+            return sorted(found + [[start, min(10000, start + self.chance.randint(0, 3)), 1, 2]])
+        at = self.chance.randrange(len(found))
+        start, end, above, below = found[at]
+        if way == "in parts":
+            middle = self.chance.randint(start, end)
+            found[at:at + 1] = [[start, middle, above, below], [middle, end, above, below]]
+        elif way == "scaled":
+            times = self.chance.choice((2, 3, 10 ** 11))
+            found[at] = [start, end, above * times, below * times]
+        elif way == "worth":
+            found[at] = [start, end, above + self.chance.choice((0, 1)), below + self.chance.choice((0, 1))]
+        elif way == "gone":
+            found.pop(at)
+        elif way == "moved":
+            found[at][self.chance.choice((0, 1))] += self.chance.choice((-1, 1))
+        elif way == "swapped":
+            found[at], found[at - 1] = found[at - 1], found[at]
+        return found
+
+    def judging(self, i, k, n, stretches):
+        told = stretches
+        for each in range(self.chance.randint(0, 2)):
+            told = self.retold(told)
+        told = told[:100]
+        whole = sum(((end - start) * Fraction(above, below) for start, end, above, below in stretches), Fraction(0))
+        if max(whole.numerator, whole.denominator) > support.FAR:
+            whole = Fraction(1)
+        times = self.chance.choice((1, 2)) if max(whole.numerator, whole.denominator) < 10 ** 17 else 1
+        more = self.chance.choice((0, 0, 0, 1, -1))
+        return support.judge(i, k, n, whole.numerator * times + more, whole.denominator * times, *told)
 
     def beginning(self):
         calls = [support.defect(name, role) for role, name in enumerate(NAMES[:4])]
@@ -114,7 +180,7 @@ class AgainstModelTest(unittest.TestCase):
             calls = line.beginning()
             for each in range(10):
                 calls += [line.telling() for step in range(5)]
-                calls += [line.asking(12 + 3 * each) for step in range(2)]
+                calls += [line.asking(12 + 3 * each) for step in range(4)]
             with self.subTest(seed=seed):
                 self.held(calls)
 
@@ -122,15 +188,46 @@ class AgainstModelTest(unittest.TestCase):
         for seed in range(100, 108):
             line = Line(seed, 0.0)
             calls = line.beginning() + [line.telling() for step in range(100)]
-            calls += [line.asking(60) for step in range(6)]
+            calls += [line.asking(60) for step in range(10)]
             with self.subTest(seed=seed):
                 self.held(calls)
+
+    def test_judgings(self):
+        said = set()
+        for seed in range(500, 520):
+            line = Line(seed, 0.0)
+            calls = line.beginning() + [line.telling() for step in range(16)]
+            model = Model()
+            for call in calls:
+                model.answer(call)
+            for step in range(6):
+                i, k, n = line.number(0, 2), line.number(0, 1), line.number(8, 18)
+                stretches = support.stretches_in(model.list_of(i, k, n))
+                calls += [line.judging(i, k, n, stretches) for each in range(3)]
+            with self.subTest(seed=seed):
+                self.held(calls)
+            said |= {answer[0] for call, answer in zip(calls, ask(*calls)) if call[0] == 13}
+        self.assertEqual({0, 1, 2, 3, 4}, said)
+
+    def test_alike(self):
+        """Rules of few defects and short longs, each held against the next one."""
+        said = set()
+        for seed in range(600, 700):
+            line = Line(seed, 0.0)
+            names = line.chance.choice((("b",), ("b", "d"), ("b", "c", "d"), ("a", "c", "e", "b", "d")))
+            calls = [support.defect(name) for name in "abcde"]
+            calls += [support.rule(line.small_text(names, 2 + at)) for at in range(4)]
+            calls += [support.alike(i, j) for i, j in ((0, 1), (1, 2), (2, 3), (3, 0), (1, 1), (0, 2))]
+            with self.subTest(seed=seed):
+                self.held(calls)
+            said |= {tuple(answer[:2]) for call, answer in zip(calls, ask(*calls)) if call[0] == 16}
+        self.assertEqual({(1,), (-9,), (0, 0)}, said)
 
     def test_tellings_with_many_strays(self):
         for seed in range(200, 500):
             line = Line(seed, 0.15)
             calls = line.beginning()[:4] + [line.telling() for step in range(110)]
-            calls += [support.shown(i) for i in range(6)]
+            calls += [support.shown(i) for i in range(4)] + [support.owners(20), support.counts()]
             with self.subTest(seed=seed):
                 self.held(calls)
 

@@ -5,20 +5,30 @@ import unittest
 from tests.support import (
     FAR,
     HouseTest,
+    alike,
     ask,
+    changed,
+    counts,
     defect,
+    defect_set,
     good,
+    judge,
     last,
     lift,
+    list_of,
     live,
+    looks,
     lumi,
     meter,
     owner,
+    owners,
+    part,
     rule,
     scale,
     set_on,
     shown,
     with_row,
+    worth,
 )
 
 WHOLE = (0, 10000)
@@ -44,12 +54,27 @@ ONE_OF_EACH = [
     rule("long 3 a"),
 ]
 
+ASKINGS = [
+    part(0, 0, 9, (3, 60)),
+    list_of(0, 0, 9),
+    judge(0, 0, 9, 1, 1, (0, 5, 8, 5)),
+    defect_set(0, 9),
+    owners(9),
+    alike(0, 0),
+    looks(0),
+    changed(0, 2, 9),
+    worth(0, 9, 5),
+    counts(),
+]
+
 
 def probes(count):
     """Calls that show all that is kept by so many writings, and then who owns and what comes next."""
     asking = [shown(i) for i in range(4)]
     asking += [good(i, n) for i in range(3) for n in (0, 3, count, count + 1) if n <= 100]
     asking += [lumi(0, k, n) for k in range(4) for n in (6, 8, count)]
+    asking += [counts(), owners(count), owners(1), alike(0, 0), looks(0), list_of(0, 0, count), worth(0, count, 5)]
+    asking += [defect_set(d, count) for d in range(2)] + [changed(0, 3, count), part(0, 0, count, (3, 60))]
     telling = [owner(0, 3, 3), owner(0, 7, 7), owner(1, 5, 5), owner(1, 4, 4), rule("both a b"), rule("c")]
     telling += [defect("c", 3), defect("d", 3)]
     return asking + telling
@@ -79,6 +104,16 @@ class RoomTest(HouseTest):
         self.refused(-7, *filled(99), lumi(0, 0, 100))
         self.refused(-1, *calls, good(0, 101))
         self.refused(-1, *calls, lumi(0, 0, 101))
+        self.assertEqual([9957, 3, 0, 5, 10, 12, 50, 10000], last(*calls, changed(0, 100, 99)))
+        self.assertEqual([10000, 1, 0, 10000], last(*calls, defect_set(0, 100)))
+        self.assertEqual([2, 3, 5], last(*calls, owners(100)))
+        self.assertEqual([0], last(*calls, list_of(0, 0, 100)))
+        self.assertEqual([[0, 0], [1, 0]], ask(*calls, *[judge(0, 0, n, 0, 1) for n in (100, 99)])[-2:])
+        self.assertEqual([1, 8, 5], last(*calls, worth(0, 100, 0)))
+        for asking in (changed(0, 99, 100), changed(0, 100, 99), defect_set(0, 100), owners(100), list_of(0, 0, 100),
+                       judge(0, 0, 100, 0, 1), worth(0, 100, 0), part(0, 0, 100)):
+            with self.subTest(asking=asking):
+                self.refused(-7, *filled(99), asking)
 
     def test_no_room_stands_behind_all_else(self):
         for code, call in (
@@ -106,7 +141,7 @@ class RoomTest(HouseTest):
                 self.refused(code, *filled(100), call)
 
     def test_asking_takes_no_room(self):
-        asking = [shown(0), good(0, 9), lumi(0, 0, 9)] * 4
+        asking = [shown(0), good(0, 9), lumi(0, 0, 9)] * 2 + ASKINGS
         self.assertEqual([100], last(*filled(99), *asking, meter(1, 1)))
 
     def test_refused_tellings_take_no_room(self):
@@ -162,6 +197,28 @@ class NothingChangedTest(HouseTest):
             (-1, lumi(0, 0, -FAR)),
             (-2, lumi(FAR, 0, 3)),
             (-7, lumi(0, 0, 10)),
+            (-1, part(0, 0, 9, (5, 5))),
+            (-2, part(1, 0, 9, (5, 6))),
+            (-7, part(0, 0, 10, (5, 6))),
+            (-1, list_of(0, 4, 9)),
+            (-2, list_of(-1, 0, 9)),
+            (-7, list_of(0, 0, 10)),
+            (-1, judge(0, 0, 9, 1, 0)),
+            (-1, judge(0, 0, 9, 1, 1, (0, 5, 8, 0))),
+            (-2, judge(1, 0, 9, 1, 1, (0, 5, 8, 5))),
+            (-7, judge(0, 0, 10, 1, 1, (0, 5, 8, 5))),
+            (-1, defect_set(0, 101)),
+            (-2, defect_set(2, 9)),
+            (-7, defect_set(0, 10)),
+            (-1, owners(-1)),
+            (-7, owners(10)),
+            (-2, alike(0, 1)),
+            (-2, looks(1)),
+            (-1, changed(0, 101, 9)),
+            (-2, changed(1, 3, 9)),
+            (-7, changed(0, 10, 9)),
+            (-1, worth(0, 9, 10000)),
+            (-7, worth(0, 10, 0)),
         ):
             with self.subTest(call=call):
                 self.unchanged(TOLD, code, call)
@@ -180,8 +237,12 @@ class NothingChangedTest(HouseTest):
         told = TOLD + [rule("all")] * 9
         self.unchanged(told, -8, rule("not b"))
 
+    def test_by_too_wide(self):
+        told = TOLD[:-1] + [rule("long 6 a")]
+        self.unchanged(told, -9, alike(0, 0))
+
     def test_asking_changes_nothing(self):
-        for call in (shown(0), good(0, 9), good(0, 4), lumi(0, 0, 9), lumi(0, 3, 0)):
+        for call in (shown(0), good(0, 9), good(0, 4), lumi(0, 0, 9), lumi(0, 3, 0), *ASKINGS):
             with self.subTest(call=call):
                 after = probes(len(TOLD))
                 self.assertEqual(ask(*TOLD, *after)[len(TOLD):], ask(*TOLD, call, *after)[len(TOLD) + 1:])
